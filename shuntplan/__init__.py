@@ -1,0 +1,1 @@
+"""Shuntplan: trains rearranged by coupling and cutting."""
