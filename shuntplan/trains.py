@@ -109,7 +109,7 @@ def ring_form(row):
     return row[at:] + row[:at]
 
 
-# The interface asks that each class has its methods itself, so Line and Ring repeat the short ones.
+# Inheriting a method of the interface is not enough (LANGUAGE.md, L5), so Line and Ring repeat the short ones.
 class Train:
     """What lines and rings have in common: they are made of a row with at least one wagon."""
 

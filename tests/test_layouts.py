@@ -18,8 +18,9 @@ NO_NAME_LISTS = [
 # Things that cannot be added to a layout of a and b in which the front of a is coupled with the back of b.
 NO_COUPLINGS = [
     None, True, 0, "", "ab", (), [], {}, (A1,), (A1, B0, B0), [A1, B0], (A1, A1), (A1, None), (None, A1),
-    (A1, ["b", 0]), (A1, ("b", False)), (("a", True), B0), (A1, ("b", 2)), (A1, ("b", -1)), (A1, C0), (C0, A1), (C0, C1), (A0, A1),
-    (A1, A0), (B1, B0), (A1, B1), (A0, B1), (B1, A0), ("a", "b"), ("a", 0), A1, (A1, ("B", 0)), ({}, A1), (A1, []),
+    (A1, ["b", 0]), (A1, ("b", False)), (("a", True), B0), (A1, ("b", 2)), (A1, ("b", -1)),
+    (A1, C0), (C0, A1), (C0, C1), (A0, A1), (A1, A0), (B1, B0), (A1, B1), (A0, B1), (B1, A0),
+    ("a", "b"), ("a", 0), A1, (A1, ("B", 0)), ({}, A1), (A1, []),
 ]
 
 
