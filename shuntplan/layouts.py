@@ -12,6 +12,11 @@ def is_name_list(value):
     return len(set(value)) == len(value)
 
 
+def ends_of(wagons):
+    """The list of all ends of these wagons, in the order of the names."""
+    return [(name, side) for name in wagons for side in (0, 1)]
+
+
 def is_end_pair(value):
     """Whether any value is a tuple of two ends."""
     return isinstance(value, tuple) and len(value) == 2 and is_end(value[0]) and is_end(value[1])
@@ -65,8 +70,8 @@ class Layout:
         if not is_name_list(wagons) or len(wagons) > MOST_WAGONS:
             raise InvalidLayout(wagons)
         partners = partners_by(couplings, wagons)
-        ends = [(name, side) for name in sorted(wagons) for side in (0, 1)]
         self._wagons = tuple(sorted(wagons))
+        ends = ends_of(self._wagons)
         self._couplings = tuple([(end, partners[end]) for end in ends if end in partners and end < partners[end]])
         self._free = tuple([end for end in ends if end not in partners])
         self._partners = partners
@@ -140,11 +145,16 @@ class Layout:
         raise TypeError("a layout is not iterated over; ask for its wagons, couplings or trains")
 
 
+def check_layout(value):
+    """Raises InvalidLayout unless the value is a Layout."""
+    if not isinstance(value, Layout):
+        raise InvalidLayout(value)
+
+
 def check_same_wagons(one, other):
     """Raises an error unless both values are Layouts of the same wagons."""
-    for value in (one, other):
-        if not isinstance(value, Layout):
-            raise InvalidLayout(value)
+    check_layout(one)
+    check_layout(other)
     if one.wagons != other.wagons:
         raise OtherWagons()
 

@@ -41,6 +41,80 @@ def all_layouts(names):
     return [Layout(list(names), couplings) for couplings in matchings(ends_of(names))]
 
 
+SMALL = [all_layouts(NAMES[:count]) for count in range(4)]
+
+
+def scattered(names, seed, free):
+    """A layout with so many free ends in which the couplings lie here and there."""
+    ends = ends_of(names)
+    state = seed + 1
+    for place in range(len(ends) - 1, 0, -1):
+        state = (state * 1103515245 + 12345) % 2 ** 31
+        chosen = state // 65536 % (place + 1)
+        ends[place], ends[chosen] = ends[chosen], ends[place]
+    ends = ends[free:]
+    return Layout(list(names), list(zip(ends[::2], ends[1::2])))
+
+
+def partners_of(layout):
+    """The dict from each end of a layout to its partner, or None."""
+    partners = {end: None for end in ends_of(layout.wagons)}
+    for one, other in layout.couplings:
+        partners[one], partners[other] = other, one
+    return partners
+
+
+def couplings_in(partners):
+    """The tuple of the couplings in a dict of partners."""
+    return tuple([(one, other) for one, other in partners.items() if other is not None and one < other])
+
+
+def coupled_by_hand(layout, one, other):
+    """The couplings of a layout after the coupling of two ends, by the words of point [8]."""
+    partners = partners_of(layout)
+    left, right = partners[one], partners[other]
+    for end in (left, right):
+        if end is not None:
+            partners[end] = None
+    partners[one], partners[other] = other, one
+    if left is not None and right is not None:
+        partners[left], partners[right] = right, left
+    return couplings_in(partners)
+
+
+def cut_by_hand(layout, end):
+    """The couplings of a layout after the cut at an end, by the words of point [8]."""
+    partners = partners_of(layout)
+    partners[partners[end]], partners[end] = None, None
+    return couplings_in(partners)
+
+
+def around(layout):
+    """The set of the couplings of each layout that is one step away."""
+    ends = ends_of(layout.wagons)
+    pairs = [(one, other) for one in ends for other in ends if one < other and layout[one] != other]
+    found = {coupled_by_hand(layout, one, other) for one, other in pairs}
+    return found | {cut_by_hand(layout, end) for end in ends if layout[end] is not None}
+
+
+def steps_between(count):
+    """A dict from all pairs of layouts of so many wagons to their distance and the number of shortest plans."""
+    links = {layout.couplings: around(layout) for layout in SMALL[count]}
+    found = {}
+    for start in links:
+        ways, steps = {start: 1}, 0
+        seen = set()
+        while ways:
+            seen |= set(ways)
+            further = {}
+            for place, many in ways.items():
+                found[start, place] = (steps, many)
+                for after in links[place] - seen:
+                    further[after] = further.get(after, 0) + many
+            ways, steps = further, steps + 1
+    return found
+
+
 class Case(unittest.TestCase):
     """A test case that also looks at the fields of errors and at what was passed."""
 
