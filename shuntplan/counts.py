@@ -5,7 +5,7 @@ from math import factorial
 from shuntplan.compare import comparison
 from shuntplan.errors import InvalidBytes, InvalidNumber, MixedPaths
 from shuntplan.layouts import Layout, check_layout, ends_of
-from shuntplan.trains import MOST_WAGONS, is_integer
+from shuntplan.trains import MOST_WAGONS, is_number_below
 
 
 def power(base, exponent):
@@ -37,11 +37,6 @@ def choices(ends):
     for others in range(ends):
         before, count = count, count + others * before
     return count
-
-
-def is_number_below(value, limit):
-    """Whether any value is an integer from 0 to less than the limit."""
-    return is_integer(value) and 0 <= value < limit
 
 
 def layout_count(wagons):

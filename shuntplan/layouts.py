@@ -151,11 +151,11 @@ def check_layout(value):
         raise InvalidLayout(value)
 
 
-def check_same_wagons(one, other):
-    """Raises an error unless both values are Layouts of the same wagons."""
-    check_layout(one)
-    check_layout(other)
-    if one.wagons != other.wagons:
+def check_same_wagons(*layouts):
+    """Raises an error unless all values are Layouts of the same wagons."""
+    for layout in layouts:
+        check_layout(layout)
+    if any([layout.wagons != layouts[0].wagons for layout in layouts]):
         raise OtherWagons()
 
 

@@ -2,7 +2,9 @@
 
 from shuntplan.errors import AlreadyCoupled, InvalidEnd, InvalidName, NotCoupled, NoWagon, TooLarge
 from shuntplan.layouts import Layout, check_layout, check_same_wagons, difference, ends_of
-from shuntplan.trains import Line, Ring, is_end, names_of, turned
+from shuntplan.orders import after_exchange
+from shuntplan.stretches import reversed_row
+from shuntplan.trains import Line, Ring, is_end, names_of
 
 MOST_FOR_NEIGHBOURS = 8
 
@@ -168,10 +170,7 @@ def reversed_stretch(layout, first, last):
     if not stand_in_order(train, first, last):
         raise InvalidName(last)
     names = names_of(train.row)
-    start = names.index(first)
-    stop = names.index(last) + 1
-    row = train.row[:start] + turned(train.row[start:stop]) + train.row[stop:]
-    return with_row(layout, train, row)
+    return with_row(layout, train, reversed_row(train.row, names.index(first), names.index(last)))
 
 
 def exchanged(layout, first, last, third, fourth):
@@ -185,8 +184,5 @@ def exchanged(layout, first, last, third, fourth):
     if last == third or not stand_in_order(train, last, third):
         raise InvalidName(third)
     names = names_of(train.row)
-    one = train.row[names.index(first):names.index(last) + 1]
-    between = train.row[names.index(last) + 1:names.index(third)]
-    other = train.row[names.index(third):names.index(fourth) + 1]
-    row = train.row[:names.index(first)] + other + between + one + train.row[names.index(fourth) + 1:]
-    return with_row(layout, train, row)
+    exchange = (names.index(first), names.index(last) + 1, names.index(third), names.index(fourth) + 1)
+    return with_row(layout, train, after_exchange(train.row, exchange))

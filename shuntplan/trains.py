@@ -12,6 +12,11 @@ def is_integer(value):
     return isinstance(value, int) and not isinstance(value, bool)
 
 
+def is_number_below(value, limit):
+    """Whether any value is an integer from 0 to less than the limit."""
+    return is_integer(value) and 0 <= value < limit
+
+
 def is_name(value):
     """Whether any value is a name."""
     if not isinstance(value, str) or not 1 <= len(value) <= NAME_LENGTH:
@@ -43,6 +48,12 @@ def is_row(value):
     if not all([is_directed(wagon) for wagon in value]):
         return False
     return len({name for name, _ in value}) == len(value)
+
+
+def check_filled_row(value):
+    """Raises InvalidRow unless the value is a row with at least one wagon."""
+    if not is_row(value) or value == ():
+        raise InvalidRow(value)
 
 
 def turned(row):
@@ -114,8 +125,7 @@ class Train:
     """What lines and rings have in common: they are made of a row with at least one wagon."""
 
     def __init__(self, row):
-        if not is_row(row) or row == ():
-            raise InvalidRow(row)
+        check_filled_row(row)
         self._row = row
 
     @property

@@ -44,15 +44,32 @@ def all_layouts(names):
 SMALL = [all_layouts(NAMES[:count]) for count in range(4)]
 
 
+class Dice:
+    """Numbers that look like chance but are the same for the same seed."""
+
+    def __init__(self, seed):
+        self.state = seed + 1
+
+    def below(self, limit):
+        self.state = (self.state * 1103515245 + 12345) % 2 ** 31
+        return self.state // 65536 % limit
+
+    def one_of(self, things):
+        return things[self.below(len(things))]
+
+
+def shuffled(things, seed):
+    """The list of these things in an order that depends on the seed."""
+    things, dice = list(things), Dice(seed)
+    for place in range(len(things) - 1, 0, -1):
+        chosen = dice.below(place + 1)
+        things[place], things[chosen] = things[chosen], things[place]
+    return things
+
+
 def scattered(names, seed, free):
     """A layout with so many free ends in which the couplings lie here and there."""
-    ends = ends_of(names)
-    state = seed + 1
-    for place in range(len(ends) - 1, 0, -1):
-        state = (state * 1103515245 + 12345) % 2 ** 31
-        chosen = state // 65536 % (place + 1)
-        ends[place], ends[chosen] = ends[chosen], ends[place]
-    ends = ends[free:]
+    ends = shuffled(ends_of(names), seed)[free:]
     return Layout(list(names), list(zip(ends[::2], ends[1::2])))
 
 
